@@ -37,6 +37,7 @@ func stocks() []model {
 		list("a:x@3 b:y@4"),
 		list(":x@3 ab:@4 a:xx@5"),
 		list("b:long.enough.to.go@3 a:x@4 c:z@5 ab:w@6 d:@7"),
+		many(16),
 		many(17),
 	}
 }
